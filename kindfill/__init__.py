@@ -1,0 +1,1 @@
+"""Kindfill: all programs of a kind, counted, told by number, or shown to be none."""
