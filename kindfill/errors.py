@@ -17,7 +17,7 @@ class NoFit(KindError):
     """A program has no kind: its part at the place has none, though all its own parts have one."""
 
     def __init__(self, place):
-        ValueError.__init__(self, "a part of the program has no kind")
+        KindError.__init__(self, "a part of the program has no kind")
         self.place = place
 
 
@@ -41,7 +41,7 @@ class NoMaking(KindError):
     """A list is no making: its tuple with the number at cannot stand there."""
 
     def __init__(self, at):
-        ValueError.__init__(self, "a tuple of the making cannot stand there")
+        KindError.__init__(self, "a tuple of the making cannot stand there")
         self.at = at
 
 

@@ -161,6 +161,17 @@ class Code(unittest.TestCase):
                           if isinstance(node, ast.Call) and isinstance(node.func, ast.Name)]
                 self.assertNotIn(function.name, called, path)
 
+    def test_an_init_calls_that_of_the_class_s_own_base(self):
+        seen = []
+        for path in FILES:
+            for each in nodes_of(path, ast.ClassDef):
+                bases = [base.id for base in each.bases]
+                for node in ast.walk(each):
+                    if isinstance(node, ast.Attribute) and node.attr == "__init__":
+                        self.assertIn(node.value.id, bases, f"{path}, line {node.lineno}")
+                        seen.append(each.name)
+        self.assertEqual(seen, ["NoFit", "NoMaking"])
+
 
 def top_names(path):
     """The names that a file's module level defines or assigns."""
