@@ -1,7 +1,7 @@
 """Which kind a program has, and programs tidied."""
 
 from kindfill.errors import NoFit
-from kindfill.programs import placed_in, programs_in
+from kindfill.programs import placed_in, programs_in, remade
 
 
 def kind_of(row, program):
@@ -96,7 +96,4 @@ def tidied_part(part, done, known):
     if word == "take":
         number = known[part[1]].pop()
         return ("take", f"x{number}", part[2], done.pop())
-    start = len(done) - len(programs_in(part))
-    inner = done[start:]
-    del done[start:]
-    return (word, *inner)
+    return remade(part, done)

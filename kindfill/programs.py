@@ -85,3 +85,28 @@ def part_at(program, place):
 def placed_in(part, place):
     """The programs that stand directly in the part at a place, with their places, in their order."""
     return [(inner, place + [step]) for step, inner in enumerate(programs_in(part))]
+
+
+def remade(part, done):
+    """A part with other programs in the stead of its own: those are taken off the end of done."""
+    if part[0] == "name":
+        return part
+    if part[0] == "take":
+        return part[:3] + (done.pop(),)
+    start = len(done) - len(programs_in(part))
+    inner = done[start:]
+    del done[start:]
+    return (part[0], *inner)
+
+
+def replaced(program, place, other):
+    """A program in which another one stands at a place."""
+    around = []
+    part = program
+    for step in place:
+        around.append((part, step))
+        part = programs_in(part)[step]
+    for part, step in around[::-1]:
+        at = 3 if part[0] == "take" else 1 + step
+        other = part[:at] + (other,) + part[at + 1:]
+    return other

@@ -83,6 +83,40 @@ def heap(parts):
     return pair(heap(one), heap(parts - 1 - one))
 
 
+def crown(many, program):
+    """Pairs of so many of one program, not deep."""
+    if many == 1:
+        return program
+    return pair(crown(many // 2, program), crown(many - many // 2, program))
+
+
+def tower(many, program):
+    """A program so many pairs deep."""
+    for _ in range(many):
+        program = pair(program, THING)
+    return program
+
+
+def fed(many, program):
+    """A program of the kind a, given so often to e, an ( a -> a )."""
+    for _ in range(many):
+        program = give(name("e"), program)
+    return program
+
+
+def grove(many):
+    """A program of the kind a with so many p, two by two given to s, an ( a -> ( a -> a ) ): not deep."""
+    if many == 1:
+        return name("p")
+    return give(name("s"), grove(many // 2), grove(many - many // 2))
+
+
+def thicket(parts):
+    """A program of so many parts without steps, not deep, that has a kind where q is given and is a pair."""
+    q = first(name("q"))
+    return crown((parts + 1) // 2, THING) if parts % 2 else pair(q, crown((parts - 2) // 2, THING))
+
+
 def shared(word, leaf, many):
     """Tuples doubled so many times: few of them, but very many parts."""
     for _ in range(many):

@@ -17,7 +17,22 @@ INTERFACE = {
     "fitting": ["kind_of", "tidied"],
     "progtexts": ["shown_program", "read_program"],
     "places": ["step_places"],
+    "steps": ["stepped", "run"],
+    "longs": ["is_long", "long_form", "size_of"],
+    "books": ["book_of"],
+    "makings": ["making_of", "made_by"],
+    "worlds": ["is_tree", "worlds_of", "holds"],
+    "barring": ["bars", "barring"],
+    "tables": ["is_table", "told_many", "told_by"],
+    "rings": ["is_ring", "gone_round"],
+    "settling": ["settled", "lets"],
 }
+# The functions that come to call themselves, each no deeper than kinds, trees and tables may be: 12 and 40.
+BOUNDED = [
+    ("barring", "tree_without"), ("plans", "plan_of"), ("settling", "entry_of"), ("settling", "table_of"),
+    ("tables", "entry_many"), ("tables", "leaf_programs"), ("tables", "table_programs"), ("tables", "told_many"),
+    ("worlds", "where_holds"),
+]
 BUILTINS = set(
     "len range enumerate zip min max sum abs sorted reversed int str bool bytes list tuple dict set frozenset isinstance "
     "ord repr any all divmod iter next Exception ValueError TypeError KeyError IndexError LookupError ZeroDivisionError "
@@ -140,11 +155,13 @@ class Code(unittest.TestCase):
         for path in FILES:
             imported = [each.name for node in nodes_of(path, ast.ImportFrom) for each in node.names]
             known = set(names_bound(path) + imported) | BUILTINS
+            own = {function.name for other in FILES for each in nodes_of(other, ast.ClassDef) for function in each.body
+                   if isinstance(function, ast.FunctionDef)}
             for node in nodes_of(path, ast.Name):
                 self.assertIn(node.id, known, f"{path}, line {node.lineno}")
             for node in nodes_of(path, ast.Call):
                 if isinstance(node.func, ast.Attribute):
-                    self.assertIn(node.func.attr, METHODS | {"__init__"}, f"{path}, line {node.lineno}")
+                    self.assertIn(node.func.attr, METHODS | own, f"{path}, line {node.lineno}")
 
     def test_is_stands_with_none_true_and_false_alone(self):
         for path in FILES:
@@ -153,13 +170,17 @@ class Code(unittest.TestCase):
                     if isinstance(sign, (ast.Is, ast.IsNot)):
                         self.assertIsInstance(other, ast.Constant, f"{path}, line {node.lineno}")
 
-    def test_no_function_calls_itself(self):
-        # What is read and told here may be nested deeper than calls may be.
+    def test_no_function_comes_to_call_itself(self):
+        # What is read and told here may be nested deeper than calls may be, but for kinds, trees and tables.
+        called = {}
         for path in FILES:
+            homes = {each.name: node.module.split(".")[1] for node in nodes_of(path, ast.ImportFrom)
+                     for each in node.names}
             for function in nodes_of(path, ast.FunctionDef):
-                called = [node.func.id for node in ast.walk(function)
-                          if isinstance(node, ast.Call) and isinstance(node.func, ast.Name)]
-                self.assertNotIn(function.name, called, path)
+                names = [node.id for node in ast.walk(function) if isinstance(node, ast.Name)]
+                called[path.stem, function.name] = [(homes.get(name, path.stem), name) for name in names]
+        round_again = [one for one in called if one in reached(one, called)]
+        self.assertEqual(sorted(round_again), BOUNDED)
 
     def test_an_init_calls_that_of_the_class_s_own_base(self):
         seen = []
@@ -171,6 +192,17 @@ class Code(unittest.TestCase):
                         self.assertIn(node.value.id, bases, f"{path}, line {node.lineno}")
                         seen.append(each.name)
         self.assertEqual(seen, ["NoFit", "NoMaking"])
+
+
+def reached(start, called):
+    """All that a function comes to call."""
+    told, todo = set(), [start]
+    while todo:
+        for other in called.get(todo.pop(), []):
+            if other not in told:
+                told.add(other)
+                todo.append(other)
+    return told
 
 
 def top_names(path):
