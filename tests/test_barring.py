@@ -14,6 +14,10 @@ PEIRCE = to(to(to(A, B), A), A)
 # Rows and kinds of up to 12 leaves that no program has, with functions of functions: many worlds are wanted.
 HARD = [
     ([], "( ( ( a -> b ) -> a ) -> a )"),
+    ([], "( ( ( ( ( a -> b ) -> a ) -> a ) -> a ) -> a )"),
+    (["( ( ( ( a -> b ) -> a ) -> c ) -> a )"], "( ( c -> c ) -> ( ( ( ( a -> c ) -> c ) -> a ) -> a ) )"),
+    (["( ( c -> d ) -> a )", "( ( ( ( ( a -> d ) -> a ) -> c ) -> c ) -> c )"], "c"),
+    (["( ( ( ( a -> b ) -> c ) -> c ) -> c )", "( ( b -> a ) -> c )", "( a -> ( a -> a ) )"], "c"),
     (["( ( a -> b ) -> a )", "( ( b -> c ) -> b )", "( ( c -> d ) -> c )"], "d"),
     (["( ( c -> a ) -> c )", "( ( ( ( d -> b ) -> d ) -> d ) -> e )", "( ( a -> e ) -> a )"], "c"),
     (["( ( d -> c ) -> d )", "( ( e -> d ) -> e )"], "( ( ( ( b -> d ) -> e ) -> ( a -> e ) ) -> e )"),

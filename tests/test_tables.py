@@ -15,6 +15,7 @@ from kindfill.worlds import is_tree
 
 P, Q, R, F = [name(text) for text in "pqrf"]
 X0, X1 = name("x0"), name("x1")
+D = ("mark", "d")
 MADE = ("made", [])
 NO_LISTS = [None, True, 0, "", "made", (), {}, set(), Rude()]
 
@@ -253,6 +254,12 @@ class Told(unittest.TestCase):
         row = [("f", to(A, A, B)), ("p", A), ("q", A), ("r", B)]
         self.assertEqual(told_by(row, B, [[("made", [[two], [two]]), MADE]]),
                          [give(F, P, P), give(F, P, Q), give(F, Q, P), give(F, Q, Q), R])
+
+    def test_several_that_are_given(self):
+        table = [[("made", [[[MADE]], [[MADE, MADE]], [[MADE]]])]]
+        row = [("f", to(A, B, C, D)), ("p", A), ("q", B), ("s", B), ("r", C)]
+        self.assertIs(is_table(row, D, table), True)
+        self.assertEqual(told_by(row, D, table), [give(F, P, Q, R), give(F, P, name("s"), R)])
 
     def test_the_programs(self):
         self.assertEqual(told_by([], ONE, []), [THING])
