@@ -5,6 +5,7 @@ parts: (None, part) for a part that takes in what was put together last, (scope,
 scope being the kinds of the names that are there, given ones first.
 """
 
+from kindfill.kinds import ways_of
 from kindfill.programs import remade
 
 HALVES = {1: ("first", None), 2: ("second", None)}
@@ -62,4 +63,21 @@ def put_together(plan, programs):
         else:
             done.append(programs[used])
             used += 1
+    return done[0]
+
+
+def spelled(row, kind, spelling):
+    """The plain long program of a kind with a spelling: for each name a tuple (index, way)."""
+    done = []
+    used = 0
+    todo = plan_of(kind, tuple([given for name, given in row]), len(row))[::-1]
+    while todo:
+        scope, part = todo.pop()
+        if scope is None:
+            done.append(remade(part, done))
+        else:
+            index, way = spelling[used]
+            used += 1
+            done.append(name_at(row, index))
+            todo.extend(plan_of_moves(ways_of(scope[index])[way][0], scope, len(row))[::-1])
     return done[0]

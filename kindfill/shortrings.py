@@ -9,6 +9,7 @@ from kindfill.books import book_of
 from kindfill.errors import TooMany
 from kindfill.kinds import ways_of
 from kindfill.kindtexts import read_kind
+from kindfill.leasts import least_sums, sum_with
 from kindfill.makings import made_by
 from kindfill.plans import plan_of
 from kindfill.rooms import kinds_in_moves
@@ -27,7 +28,7 @@ def short_ring(row, kind):
     """
     starts, rooms, rows = book_of(row, kind)
     own = [[parts_of_row(told) for told in each] for each in rows]
-    fewest = fewest_parts(rows, own)
+    fewest = least_sums(rows, own)
     seeking = ring_choices(rooms, rows, own, fewest)
     found = [start for start in range(len(starts)) if (starts[start], UPPER) in seeking]
     if not found:
@@ -53,28 +54,6 @@ def parts_of_row(told):
     text, way, inner = told
     moves = ways_of(read_kind(text))[way][0]
     return 1 + len(moves) + sum([parts_of_frame(kind) for kind in kinds_in_moves(moves)])
-
-
-def fewest_parts(rows, own):
-    """For each room a tuple (parts, row): the fewest parts of its programs, and the row; None where it has none."""
-    fewest = [None for room in rows]
-    better = True
-    while better:
-        better = False
-        for room, told in enumerate(rows):
-            for number, (text, way, inner) in enumerate(told):
-                parts = parts_with(own[room][number], inner, fewest)
-                if parts is not None and (fewest[room] is None or parts < fewest[room][0]):
-                    fewest[room] = (parts, number)
-                    better = True
-    return fewest
-
-
-def parts_with(own, inner, fewest):
-    """The fewest parts of a program by a row that has so many of its own, and rooms; None where one has no program."""
-    if any(fewest[room] is None for room in inner):
-        return None
-    return own + sum([fewest[room][0] for room in inner])
 
 
 def ring_choices(rooms, rows, own, fewest):
@@ -105,7 +84,7 @@ def rows_ahead(rows, own, fewest):
     told = []
     for room, each in enumerate(rows):
         for number, (text, way, inner) in enumerate(each):
-            parts = parts_with(own[room][number], inner, fewest)
+            parts = sum_with(own[room][number], inner, fewest)
             if parts is not None:
                 for at, below in enumerate(inner):
                     told.append((room, number, at, below, parts - fewest[below][0]))

@@ -208,6 +208,26 @@ def longs_to(names, kind, most):
     return [program for size in range(most + 1) for program in longs(names, kind, size)]
 
 
+def spelled_out(names, kind, program, takes=0):
+    """The spelling of a plain long program, by the words of the document."""
+    if kind == ONE:
+        return []
+    if kind[0] == "both":
+        return spelled_out(names, kind[1], program[1], takes) + spelled_out(names, kind[2], program[2], takes)
+    if kind[0] == "to":
+        return spelled_out([*names, (f"x{takes}", kind[1])], kind[2], program[3], takes + 1)
+    for index, (text, given) in enumerate(names):
+        for way, (moves, mark) in enumerate(ways_of(given)):
+            if mark == kind[1] and goes_along(names, text, moves, program, takes):
+                told = []
+                for move in reversed(moves):
+                    if move not in (1, 2):
+                        told = spelled_out(names, move, program[2], takes) + told
+                    program = program[1]
+                return [(index, way)] + told
+    raise AssertionError("no plain long program")
+
+
 def holds_at(tree, kind):
     """Whether a kind holds at the root of a tree."""
     if kind[0] == "mark":

@@ -26,12 +26,18 @@ INTERFACE = {
     "tables": ["is_table", "told_many", "told_by"],
     "rings": ["is_ring", "gone_round"],
     "settling": ["settled", "lets"],
+    "counting": ["counts_of", "shortest"],
+    "order": ["spelling_of", "of_size", "number_of"],
+    "patterns": ["pattern_of"],
+    "bridges": ["are_bridges", "bridged"],
 }
-# The functions that come to call themselves, each no deeper than kinds, trees and tables may be: 12 and 40.
+# The functions that come to call themselves, each no deeper than kinds, trees and tables may be: 12 and 40; than there
+# are names in programs that are counted: 16; or than there are rooms on the way in a shortest program.
 BOUNDED = [
-    ("barring", "tree_without"), ("plans", "plan_of"), ("settling", "entry_of"), ("settling", "table_of"),
-    ("tables", "entry_many"), ("tables", "leaf_programs"), ("tables", "table_programs"), ("tables", "told_many"),
-    ("worlds", "where_holds"),
+    ("barring", "tree_without"), ("bridges", "put_across"), ("patterns", "end_pattern"), ("patterns", "end_patterns"),
+    ("plans", "plan_of"), ("settling", "entry_of"), ("settling", "table_of"), ("shortlongs", "many_of"),
+    ("sums", "many"), ("sums", "many_in"), ("tables", "entry_many"), ("tables", "leaf_programs"),
+    ("tables", "table_programs"), ("tables", "told_many"), ("worlds", "where_holds"),
 ]
 BUILTINS = set(
     "len range enumerate zip min max sum abs sorted reversed int str bool bytes list tuple dict set frozenset isinstance "
@@ -176,11 +182,21 @@ class Code(unittest.TestCase):
         for path in FILES:
             homes = {each.name: node.module.split(".")[1] for node in nodes_of(path, ast.ImportFrom)
                      for each in node.names}
+            methods = methods_in(path)
             for function in nodes_of(path, ast.FunctionDef):
                 names = [node.id for node in ast.walk(function) if isinstance(node, ast.Name)]
+                names += [node.attr for node in ast.walk(function) if isinstance(node, ast.Attribute)
+                          and node.attr in methods and getattr(node.value, "id", None) == "self"]
                 called[path.stem, function.name] = [(homes.get(name, path.stem), name) for name in names]
         round_again = [one for one in called if one in reached(one, called)]
         self.assertEqual(sorted(round_again), BOUNDED)
+
+    def test_no_name_is_a_method_here_and_an_attribute_there(self):
+        methods = [name for path in FILES for name in methods_in(path)]
+        for path in FILES:
+            for node in nodes_of(path, ast.Attribute):
+                if isinstance(node.ctx, ast.Store):
+                    self.assertNotIn(node.attr, methods, f"{path}, line {node.lineno}")
 
     def test_an_init_calls_that_of_the_class_s_own_base(self):
         seen = []
@@ -192,6 +208,12 @@ class Code(unittest.TestCase):
                         self.assertIn(node.value.id, bases, f"{path}, line {node.lineno}")
                         seen.append(each.name)
         self.assertEqual(seen, ["NoFit", "NoMaking"])
+
+
+def methods_in(path):
+    """The names of the methods of a file's classes."""
+    return [function.name for each in nodes_of(path, ast.ClassDef) for function in each.body
+            if isinstance(function, ast.FunctionDef)]
 
 
 def reached(start, called):
