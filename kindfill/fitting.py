@@ -33,6 +33,8 @@ def kind_of_part(part, kinds, known):
         return ("one",)
     if word == "name":
         return innermost(known, part[1])
+    if word == "gap":
+        return part[1]
     last = kinds.pop()
     if word == "take":
         known[part[1]].pop()

@@ -1,6 +1,7 @@
 """Programs: their bounds, their parts and places.
 
-Nothing here calls itself: programs that are told may be more than 1000 deep.
+Nothing here calls itself: programs that are told may be more than 1000 deep. What goes through programs goes through
+drafts, too: a gap in them has no parts of its own.
 """
 
 from kindfill.kinds import is_kind
@@ -13,7 +14,7 @@ LENGTHS = {"name": 2, "take": 4, "give": 3, "pair": 3, "first": 2, "second": 2, 
 
 def programs_in(part):
     """The programs that stand directly in a part, in their order."""
-    if part[0] == "name":
+    if part[0] in ("name", "gap"):
         return []
     if part[0] == "take":
         return [part[3]]
@@ -89,7 +90,7 @@ def placed_in(part, place):
 
 def remade(part, done):
     """A part with other programs in the stead of its own: those are taken off the end of done."""
-    if part[0] == "name":
+    if part[0] in ("name", "gap"):
         return part
     if part[0] == "take":
         return part[:3] + (done.pop(),)

@@ -1,4 +1,4 @@
-"""The texts of programs."""
+"""The texts of programs, and of programs with gaps."""
 
 from kindfill.errors import NoText
 from kindfill.kindtexts import kind_of_words, shown_kind
@@ -6,6 +6,8 @@ from kindfill.programs import LENGTHS, is_program
 from kindfill.words import is_name
 
 HEAD = "=>"
+GAP = "["
+GAP_END = "]"
 HALVES = {".1": "first", ".2": "second"}
 
 
@@ -37,27 +39,34 @@ def pieces_of(part):
         return [part[1], ".1"]
     if word == "second":
         return [part[1], ".2"]
+    if word == "gap":
+        return [GAP, shown_kind(part[1]), GAP_END]
     return ["#"]
 
 
 def read_program(text):
     """The program that a text writes; NoText where it writes none."""
-    program = program_of_words(text.split(" "))
+    program = draft_of_words(text.split(" "))
+    # A part that is a gap is none of a program.
     if program is None or not is_program(program):
         raise NoText("the text writes no program")
     return program
 
 
-def program_of_words(words):
-    """The program that words write, of whatever size, or None."""
+def draft_of_words(words):
+    """The program, perhaps with gaps, that words write, of whatever size, or None."""
     stack = []
     at = 0
     while at < len(words):
         # No program begins with a colon: where one stands, a take is written.
         if words[at] == "(" and words[at + 2:at + 3] == [":"]:
-            arrow = arrow_from(words, at + 3)
-            fits = put_head(stack, words[at + 1], words[at + 3:arrow])
-            at = arrow
+            end = end_from(words, at + 3, HEAD)
+            fits = put_head(stack, words[at + 1], words[at + 3:end])
+            at = end
+        elif words[at] == GAP:
+            end = end_from(words, at + 1, GAP_END)
+            fits = put_gap(stack, words[at + 1:end], words[end:end + 1])
+            at = end
         else:
             fits = put_word(stack, words[at])
         if not fits:
@@ -66,9 +75,9 @@ def program_of_words(words):
     return stack[0] if shape_of(stack) == ["program"] else None
 
 
-def arrow_from(words, at):
-    """Where the next arrow of a take stands; behind the last word where there is none."""
-    while at < len(words) and words[at] != HEAD:
+def end_from(words, at, word):
+    """Where a word stands next; behind the last word where it does not."""
+    while at < len(words) and words[at] != word:
         at += 1
     return at
 
@@ -79,6 +88,15 @@ def put_head(stack, name, words):
     if kind is None or not is_name(name):
         return False
     stack.append((HEAD, name, kind))
+    return True
+
+
+def put_gap(stack, words, end):
+    """Put a gap of the kind that words write on the stack; False where they write none, or the gap has no end."""
+    kind = kind_of_words(words)
+    if kind is None or not end:
+        return False
+    stack.append(("gap", kind))
     return True
 
 
@@ -106,7 +124,7 @@ def close(stack, shape, word):
     start = len(stack) - len(shape)
     if start < 0 or shape_of(stack[start:]) != shape:
         return False
-    inner = [item for item in stack[start:] if item[0] in LENGTHS]
+    inner = [item for item in stack[start:] if is_part(item)]
     stack[start:] = [(word, *inner)]
     return True
 
@@ -120,5 +138,10 @@ def close_take(stack):
 
 
 def shape_of(items):
-    """What stands on a stack: "program" for each program, and the signs."""
-    return ["program" if item[0] in LENGTHS else item[0] for item in items]
+    """What stands on a stack: "program" for each program or gap, and the signs."""
+    return ["program" if is_part(item) else item[0] for item in items]
+
+
+def is_part(item):
+    """Whether a part stands on a stack, and no sign."""
+    return item[0] in LENGTHS or item[0] == "gap"

@@ -5,7 +5,6 @@ A shortest program is made of shortest ones: so at each room of the book only th
 
 from kindfill.books import book_of
 from kindfill.leasts import least_sums, sum_with
-from kindfill.plans import spelled
 from kindfill.sums import Sums, rooms_with
 
 
@@ -73,8 +72,3 @@ class ShortLongs:
             rows.setdefault(self.sums.numbers[text], (way, inner))
         index = min([at for at, number in enumerate(scope) if number in rows])
         return (index, *rows[scope[index]])
-
-
-def first_short(row, kind):
-    """The first one of the shortest plain long programs of a kind that has programs."""
-    return spelled(row, kind, ShortLongs(row, kind).spelling())

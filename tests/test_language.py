@@ -30,11 +30,16 @@ INTERFACE = {
     "order": ["spelling_of", "of_size", "number_of"],
     "patterns": ["pattern_of"],
     "bridges": ["are_bridges", "bridged"],
+    "sides": ["sides_of", "stand_once"],
+    "catalogue": ["kinds_many", "kind_at", "kind_number"],
+    "census": ["census"],
+    "drafts": ["read_draft", "shown_draft", "gaps_of"],
 }
 # The functions that come to call themselves, each no deeper than kinds, trees and tables may be: 12 and 40; than there
 # are names in programs that are counted: 16; or than there are rooms on the way in a shortest program.
 BOUNDED = [
-    ("barring", "tree_without"), ("bridges", "put_across"), ("patterns", "end_pattern"), ("patterns", "end_patterns"),
+    ("barring", "tree_without"), ("bridges", "put_across"), ("catalogue", "kind_with"), ("catalogue", "number_with"),
+    ("patterns", "end_pattern"), ("patterns", "end_patterns"),
     ("plans", "plan_of"), ("settling", "entry_of"), ("settling", "table_of"), ("shortlongs", "many_of"),
     ("sums", "many"), ("sums", "many_in"), ("tables", "entry_many"), ("tables", "leaf_programs"),
     ("tables", "table_programs"), ("tables", "told_many"), ("worlds", "where_holds"),
@@ -136,6 +141,9 @@ class Modules(unittest.TestCase):
             told = [node.name for node in tree_of(PACKAGE / (stem + ".py")).body if isinstance(node, ast.FunctionDef)]
             for name in names:
                 self.assertIn(name, told)
+        desk = [node for node in tree_of(PACKAGE / "desk.py").body if isinstance(node, ast.ClassDef)]
+        self.assertEqual([each.name for each in desk], ["Desk"])
+        self.assertIn("say", methods_in(PACKAGE / "desk.py"))
 
 
 class Code(unittest.TestCase):

@@ -15,7 +15,8 @@ from kindfill.makings import made_by
 from kindfill.order import number_of, of_size, spelling_of
 from kindfill.programs import parts_of
 from kindfill.rings import gone_round
-from kindfill.shortlongs import first_short
+from kindfill.plans import spelled
+from kindfill.shortlongs import ShortLongs
 from kindfill.tables import told_by
 
 P, Q, F, G, H = [name(text) for text in "pqfgh"]
@@ -212,6 +213,10 @@ class OfSize(unittest.TestCase):
                 if many:
                     number_of(row, kind, of_size(row, kind, size, many - 1))
             self.assertEqual((row, kind), kept)
+
+
+def first_short(row, kind):
+    return spelled(row, kind, ShortLongs(row, kind).spelling())
 
 
 class FirstShort(unittest.TestCase):

@@ -2,7 +2,7 @@
 
 import unittest
 
-from samples import (A, B, ONE, THING, Rude, both, bush, chain, first, give, halves, heap, name, pair,
+from samples import (A, B, ONE, THING, Rude, bush, chain, first, give, halves, heap, name, pair,
                      programs_of_parts, second, shared, take, to)
 
 from kindfill.programs import deep_of, is_program, part_at, parts_of
