@@ -1,10 +1,10 @@
 """Plain long programs, and the plain long forms of programs."""
 
 from kindfill.errors import TooLong
-from kindfill.fitting import kind_of, tidied
-from kindfill.programs import programs_in, remade
+from kindfill.fitting import kind_of
+from kindfill.programs import programs_in
 from kindfill.spots import spots_of
-from kindfill.steps import MOST_PARTS, run, within_bounds
+from kindfill.steps import DEEPEST, MOST_PARTS, gone_on
 
 
 def is_long(row, kind, program):
@@ -27,62 +27,106 @@ def size_of(program):
 def long_form(row, program):
     """The plain long form of a program; NoFit, then TooLong."""
     kind = kind_of(row, program)
-    short = run(program)[0]
-    return tidied(within_bounds(made_long(row, kind, short)))
+    gauge, log = gone_on(program, None)
+    return LongMaker(row).made_long(kind, gauge, 0, 0)
 
 
-def made_long(row, kind, program):
-    """A tidied program without steps made long by its kind, with names of its own; TooLong for too many parts."""
-    known = {name: given for name, given in row}
-    done = []
-    parts = 0
-    # Tuples (kind, program), and (None, part) for a part that waits for its own programs.
-    todo = [(kind, program)]
-    while todo:
-        kind, part = todo.pop()
-        if kind is None:
-            parts += 1
-            # Told at once: of kinds with many pairs there may be very many parts.
-            if parts > MOST_PARTS:
-                raise TooLong("the plain long form would have too many parts")
-            done.append(remade(part, done))
-        elif kind[0] == "mark":
-            todo.extend(long_moves(part, known)[::-1])
+class LongMaker:
+    """What a program without steps is made long with.
+
+    It comes to call itself, twice at most for each part that is further in: beyond 100 deep a form is refused.
+    """
+
+    def __init__(self, row):
+        # To each name what it is in the form, and its kind. Names that are new in the form are told by their numbers.
+        self.known = {}
+        for name, kind in row:
+            self.known[name] = (("name", name), kind)
+        self.parts = 0
+        self.made = {}
+
+    def note_parts(self, parts, depth):
+        """So many more parts are in the form, and so deep one of them; TooLong."""
+        self.parts += parts
+        if self.parts > MOST_PARTS or depth > DEEPEST:
+            raise TooLong("the plain long form would become too large")
+
+    def take_name(self, name, kind, takes):
+        """From here on a name stands for what the form's next take takes; told is that take's name."""
+        new = f"x{takes}"
+        self.known[name] = (("name", new), kind)
+        return new
+
+    def made_long(self, kind, gauge, takes, depth):
+        """A program made long by its kind, where so many takes are round it, and it is so deep in the form."""
+        key = (gauge, takes, depth)
+        if key in self.made:
+            told, parts = self.made[key]
+            self.note_parts(parts, depth)
+            return told
+        ahead = self.parts
+        word = gauge.program[0]
+        if word == "pair":
+            self.note_parts(1, depth)
+            one = self.made_long(kind[1], gauge.inner[0], takes, depth + 1)
+            told = ("pair", one, self.made_long(kind[2], gauge.inner[1], takes, depth + 1))
+        elif word == "take":
+            self.note_parts(1, depth)
+            name = self.take_name(gauge.program[1], kind[1], takes)
+            told = ("take", name, kind[1], self.made_long(kind[2], gauge.inner[0], takes + 1, depth + 1))
+        elif word == "thing":
+            self.note_parts(1, depth)
+            told = gauge.program
         else:
-            todo.extend(long_frame(kind, part, known)[::-1])
-    return done[0]
+            name, moves = moves_of(gauge)
+            if kind[0] == "mark":
+                told = self.long_moves(name, moves, (takes, depth))
+            else:
+                told = self.gone_along(kind, name, moves, (takes, depth))
+        # What has no names of takes in it is made long in the same way again, as often as it stands there.
+        if gauge.takes == 0:
+            self.made[key] = (told, self.parts - ahead)
+        return told
+
+    def gone_along(self, kind, name, moves, place):
+        """What a name is in the form with moves behind it: words, things that are given, numbers of new names."""
+        takes, depth = place
+        if kind[0] == "mark":
+            return self.long_moves(name, moves, place)
+        self.note_parts(1, depth)
+        if kind[0] == "one":
+            return ("thing",)
+        if kind[0] == "both":
+            one = self.gone_along(kind[1], name, moves + ["first"], (takes, depth + 1))
+            return ("pair", one, self.gone_along(kind[2], name, moves + ["second"], (takes, depth + 1)))
+        new = self.take_name(takes, kind[1], takes)
+        return ("take", new, kind[1], self.gone_along(kind[2], name, moves + [takes], (takes + 1, depth + 1)))
+
+    def long_moves(self, name, moves, place):
+        """A name of a mark's kind by its moves, where each thing given is made long."""
+        takes, depth = place
+        told, kind = self.known[name]
+        depth += len(moves)
+        self.note_parts(1 + len(moves), depth)
+        for move in moves:
+            if isinstance(move, str):
+                told = (move, told)
+                kind = kind[1 if move == "first" else 2]
+            else:
+                if isinstance(move, int):
+                    given = self.gone_along(kind[1], move, [], (takes, depth))
+                else:
+                    given = self.made_long(kind[1], move, takes, depth)
+                told = ("give", told, given)
+                kind = kind[2]
+            depth -= 1
+        return told
 
 
-def long_frame(kind, program, known):
-    """What is to be done to make a program long by a kind that is no mark's."""
-    word = program[0]
-    if kind[0] == "one":
-        return [(None, ("thing",))]
-    if kind[0] == "both":
-        one, other = program[1:] if word == "pair" else (("first", program), ("second", program))
-        return [(kind[1], one), (kind[2], other), (None, ("pair", None, None))]
-    if word == "take":
-        name, inner = program[1], program[3]
-    else:
-        # No given name and no tidied one is like this, and there is one more name in known behind each.
-        name = f"y{len(known)}"
-        inner = ("give", program, ("name", name))
-    # In a tidied program takes further in have other names: so nothing that is still to come is hidden by this.
-    known[name] = kind[1]
-    return [(kind[2], inner), (None, ("take", name, kind[1], None))]
-
-
-def long_moves(program, known):
-    """What is to be done to make a program of a mark's kind long: a name, and each of its moves."""
+def moves_of(gauge):
+    """The tuple (name, moves) of a program without steps that is a name with moves behind it."""
     moves = []
-    while program[0] != "name":
-        moves.append(program)
-        program = program[1]
-    kind = known[program[1]]
-    told = [(None, program)]
-    for move in moves[::-1]:
-        if move[0] == "give":
-            told.append((kind[1], move[2]))
-        told.append((None, move))
-        kind = kind[1] if move[0] == "first" else kind[2]
-    return told
+    while gauge.inner:
+        moves.append(gauge.inner[1] if gauge.program[0] == "give" else gauge.program[0])
+        gauge = gauge.inner[0]
+    return (gauge.program[1], moves[::-1])

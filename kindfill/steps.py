@@ -1,9 +1,9 @@
 """Programs gone on by steps."""
 
 from kindfill.errors import NoStep, TooLong
-from kindfill.fitting import tidied
-from kindfill.places import can_step, step_places
-from kindfill.programs import deep_of, part_at, parts_of, remade, replaced, programs_in
+from kindfill.gauges import gauge_of, step_place, stepped_at
+from kindfill.places import can_step
+from kindfill.programs import deep_of, part_at, parts_of
 
 MOST_STEPS = 200
 MOST_PARTS = 1500
@@ -15,23 +15,29 @@ def stepped(program, place):
     part = part_at(program, place)
     if part is None or not can_step(part):
         raise NoStep("no step can be done at that place")
-    return tidied(step_done(tidied(program), place))
+    return stepped_at(gauge_of(program), place).program
 
 
 def run(program, picks=None):
     """The tuple (program, log): the program without steps to which one comes by picks, and the places; or TooLong."""
-    program = tidied(program)
+    gauge, log = gone_on(program, picks)
+    return (gauge.program, log)
+
+
+def gone_on(program, picks):
+    """As run tells it, but with the gauge of the program."""
+    gauge = gauge_of(program)
     log = []
-    places = step_places(program)
-    while places:
+    while gauge.steps:
         if len(log) == MOST_STEPS:
             raise TooLong("too many steps would be done")
         pick = picks[len(log) % len(picks)] if picks else 0
-        place = places[pick % len(places)]
-        program = tidied(within_bounds(step_done(program, place)))
+        place = step_place(gauge, pick % gauge.steps)
+        gauge = stepped_at(gauge, place)
+        if gauge.parts > MOST_PARTS or gauge.deep > DEEPEST:
+            raise TooLong("a program would become too large")
         log.append(place)
-        places = step_places(program)
-    return (program, log)
+    return (gauge, log)
 
 
 def within_bounds(program):
@@ -39,34 +45,3 @@ def within_bounds(program):
     if parts_of(program) > MOST_PARTS or deep_of(program) > DEEPEST:
         raise TooLong("a program would become too large")
     return program
-
-
-def step_done(program, place):
-    """What a tidied program becomes by the step at a place; it is not tidied again."""
-    part = part_at(program, place)
-    if part[0] == "give":
-        function = part[1]
-        return replaced(program, place, put_in(function[3], function[1], part[2]))
-    half = 1 if part[0] == "first" else 2
-    return replaced(program, place, part[1][half])
-
-
-def put_in(program, name, other):
-    """A program with another one in the stead of a name, where both stand in one tidied program.
-
-    There each take has a name of its own among the takes round it, and those within the program are further in than
-    all that the other one has from outside: so it may be put in as it is, and keeps what its names stand for.
-    """
-    done = []
-    todo = [(program, False)]
-    while todo:
-        part, leaving = todo.pop()
-        if leaving:
-            done.append(remade(part, done))
-        elif part[0] == "name":
-            done.append(other if part[1] == name else part)
-        else:
-            todo.append((part, True))
-            for inner in programs_in(part)[::-1]:
-                todo.append((inner, False))
-    return done[0]

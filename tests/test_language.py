@@ -36,9 +36,11 @@ INTERFACE = {
     "drafts": ["read_draft", "shown_draft", "gaps_of"],
 }
 # The functions that come to call themselves, each no deeper than kinds, trees and tables may be: 12 and 40; than there
-# are names in programs that are counted: 16; or than there are rooms on the way in a shortest program.
+# are names in programs that are counted: 16; than there are rooms on the way in a shortest program; than a plain long
+# form may be: 100; or just once (renumbered).
 BOUNDED = [
     ("barring", "tree_without"), ("bridges", "put_across"), ("catalogue", "kind_with"), ("catalogue", "number_with"),
+    ("gauges", "renumbered"), ("longs", "gone_along"), ("longs", "long_moves"), ("longs", "made_long"),
     ("patterns", "end_pattern"), ("patterns", "end_patterns"),
     ("plans", "plan_of"), ("settling", "entry_of"), ("settling", "table_of"), ("shortlongs", "many_of"),
     ("sums", "many"), ("sums", "many_in"), ("tables", "entry_many"), ("tables", "leaf_programs"),
