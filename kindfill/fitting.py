@@ -9,21 +9,41 @@ def kind_of(row, program):
     # To each name the kinds of what stands by it, the innermost one last.
     known = {name: [kind] for name, kind in row}
     kinds = []
-    todo = [(program, [], False)]
+    left = 0
+    todo = [(program, False)]
     while todo:
-        part, place, leaving = todo.pop()
+        part, leaving = todo.pop()
         if leaving:
             kind = kind_of_part(part, kinds, known)
             if kind is None:
-                raise NoFit(place)
+                raise NoFit(place_left(program, left))
             kinds.append(kind)
+            left += 1
+        else:
+            todo.append((part, True))
+            for inner in programs_in(part)[::-1]:
+                todo.append((inner, False))
+            if part[0] == "take":
+                known.setdefault(part[1], []).append(part[2])
+    return kinds[0]
+
+
+def place_left(program, number):
+    """The place of the part with a number, from 0, where each part comes behind its own ones.
+
+    Places take time to be reckoned: only that of a part that has no kind is wanted.
+    """
+    places = []
+    todo = [(program, [], False)]
+    while len(places) <= number:
+        part, place, leaving = todo.pop()
+        if leaving:
+            places.append(place)
         else:
             todo.append((part, place, True))
             for inner, below in placed_in(part, place)[::-1]:
                 todo.append((inner, below, False))
-            if part[0] == "take":
-                known.setdefault(part[1], []).append(part[2])
-    return kinds[0]
+    return places[number]
 
 
 def kind_of_part(part, kinds, known):
