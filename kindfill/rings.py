@@ -1,9 +1,10 @@
 """Rings: plain long programs that can be made longer and longer, going round between two places."""
 
+from kindfill.errors import TooLong
 from kindfill.fitting import tidied
-from kindfill.programs import part_at, replaced
+from kindfill.programs import deep_of, part_at, parts_of, replaced
 from kindfill.spots import mark_places, spots_of
-from kindfill.steps import within_bounds
+from kindfill.steps import DEEPEST, MOST_PARTS
 from kindfill.wholes import is_whole
 
 
@@ -35,4 +36,6 @@ def gone_round(program, above, below, times):
         # All that the ring has from outside is taken further out than whatever is taken on the way to the place.
         told = replaced(told, place, ring)
         place = place + below[len(above):]
-    return tidied(within_bounds(told))
+    if parts_of(told) > MOST_PARTS or deep_of(told) > DEEPEST:
+        raise TooLong("the program would become too large")
+    return tidied(told)

@@ -3,7 +3,7 @@
 from kindfill.errors import NoStep, TooLong
 from kindfill.gauges import gauge_of, step_place, stepped_at
 from kindfill.places import can_step
-from kindfill.programs import deep_of, part_at, parts_of
+from kindfill.programs import part_at
 
 MOST_STEPS = 200
 MOST_PARTS = 1500
@@ -38,10 +38,3 @@ def gone_on(program, picks):
             raise TooLong("a program would become too large")
         log.append(place)
     return (gauge, log)
-
-
-def within_bounds(program):
-    """A program that has at most 1500 parts and is at most 100 deep; TooLong for any other."""
-    if parts_of(program) > MOST_PARTS or deep_of(program) > DEEPEST:
-        raise TooLong("a program would become too large")
-    return program

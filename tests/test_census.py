@@ -8,8 +8,9 @@ from test_catalogue import LISTS, in_order
 from test_settling import rings_in
 
 from kindfill.catalogue import kinds_many
-from kindfill.census import census
+from kindfill.census import census, sort_of
 from kindfill.errors import TooMany
+from kindfill.kindtexts import read_kind
 
 
 def plain_census(marks, leaves):
@@ -63,6 +64,13 @@ class Census(unittest.TestCase):
         self.assertEqual(census(marks[:599], 1), (599, 1, 0, 0))
         with self.assertRaises(TooMany):
             census(marks, 1)
+
+    def test_the_sort_of_larger_kinds(self):
+        # No census of so few kinds comes to these.
+        for text, sort in [("( ( ( a -> b ) -> a ) -> a )", 0), ("( ( a -> a ) -> ( ( a -> a ) -> a ) )", 0), ("( ( a -> b ) -> ( a -> b ) )", 1),
+                           ("( a -> ( a -> ( a -> a ) ) )", 2), ("( ( a * a ) -> ( a * a ) )", 2), ("( ( a -> a ) -> ( a -> a ) )", 3),
+                           ("( ( ( a -> b ) -> a ) -> ( ( a -> b ) -> b ) )", 3), ("( a -> ( ( a -> a ) -> ( 1 * a ) ) )", 3)]:
+            self.assertEqual(sort_of(read_kind(text)), sort, text)
 
     def test_the_one_is_among_all(self):
         self.assertEqual(in_order(["a"], 1)[-1], ONE)

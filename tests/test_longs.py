@@ -62,6 +62,31 @@ NOT_LONG = [
 ]
 
 
+DEEP_ROW = [("p", A), ("e", to(A, A)), ("s", to(A, A, A, A)), ("h", to(to(A, A), A)), ("k", both(to(ONE, A), to(A, both(A, A)))),
+            ("z", to(both(ONE, both(to(A, A, A), A)), A)), ("w", both(both(A, to(A, A, A)), both(ONE, A)))]
+
+
+def deep_one(random):
+    """A program that has a kind by the row, and of which the form is some 100 deep."""
+    e, s, h, k, z, w = [name(text) for text in "eshkzw"]
+    forms = [
+        lambda inner: give(e, inner), lambda inner: give(s, inner, P, P), lambda inner: give(s, P, inner, P),
+        lambda inner: give(s, P, P, inner), lambda inner: give(h, take("y", A, inner)), lambda inner: first(give(second(k), inner)),
+        lambda inner: second(give(second(k), inner)), lambda inner: give(z, pair(THING, pair(take("u", A, take("v", A, inner)), P))),
+        lambda inner: give(z, pair(THING, pair(second(first(w)), inner))), lambda inner: give(h, give(s, inner, P)),
+        lambda inner: give(h, give(s, P, inner)), lambda inner: give(second(first(w)), P, inner),
+    ]
+    program = random.choice([P, give(h, e), second(second(w)), first(first(w)), give(z, pair(THING, pair(second(first(w)), P))),
+                             give(h, give(s, P, P))])
+    for _ in range(random.choice([5, 12, 20, 24, 26, 28, 30])):
+        program = random.choice(forms)(program)
+    if random.random() < 0.3:
+        program = pair(program, random.choice([w, h, z, s]))
+    for _ in range(random.randint(20, 50)):
+        program = random.choice([lambda inner: pair(inner, THING), lambda inner: pair(P, inner), lambda inner: take("n", B, inner)])(program)
+    return program
+
+
 class IsLong(unittest.TestCase):
     def test_plain_long_ones(self):
         for kind, program in LONG:
@@ -271,6 +296,62 @@ class LongForm(unittest.TestCase):
             else:
                 with self.assertRaises(TooLong):
                     long_form(row, program)
+
+    def test_100_deep_and_101_in_all_forms(self):
+        random = Random(170)
+        seen = {99: 0, 100: 0, 101: 0, 102: 0}
+        while min(seen.values()) < 12:
+            program = deep_one(random)
+            deep = deep_of(form_of(DEEP_ROW, program))
+            if deep in seen:
+                seen[deep] += 1
+                if deep <= 100:
+                    self.assertEqual(long_form(DEEP_ROW, program), form_of(DEEP_ROW, program))
+                else:
+                    self.assertRaises(TooLong, long_form, DEEP_ROW, program)
+
+    def test_100_deep_and_101_by_names_of_deep_kinds(self):
+        left = right = turned = taken = A
+        for number in range(12):
+            left, right, taken = both(left, A), both(A, right), to(A, taken)
+            turned = (both(turned, ONE), to(ONE, turned), both(ONE, turned))[number % 3]
+        for kind in (left, right, turned, taken):
+            deep = deep_of(form_of([("v", kind)], name("v")))
+            for pairs in range(98 - deep, 103 - deep):
+                program = tower(pairs, name("v"))
+                if pairs + deep <= 100:
+                    self.assertEqual(long_form([("v", kind)], program), form_of([("v", kind)], program))
+                else:
+                    self.assertRaises(TooLong, long_form, [("v", kind)], program)
+
+    def test_1500_parts_and_1501_in_all_forms(self):
+        random = Random(171)
+        row = DEEP_ROW + [("q", both(A, B))]
+        for _ in range(60):
+            program = deep_one(random)
+            while deep_of(form_of(row, program)) > 60 or parts_of(form_of(row, program)) > 500:
+                program = deep_one(random)
+            program = pair(crown(random.randint(1, 2), program), program)
+            parts = parts_of(form_of(row, program))
+            for whole in (1500, 1501):
+                larger = pair(program, thicket(whole - parts - 1))
+                if whole == 1500:
+                    self.assertEqual(long_form(row, larger), form_of(row, larger))
+                else:
+                    self.assertRaises(TooLong, long_form, row, larger)
+
+    def test_1500_parts_and_1501_of_what_is_put_in(self):
+        # Behind the step m stands there so often, and each is made long to 10 parts; so are things that hold one.
+        row = [("m", to(ONE, ONE, ONE, A)), ("q", both(A, B))]
+        for given, kind, parts in [(name("m"), row[0][1], 10), (pair(name("m"), THING), both(row[0][1], ONE), 12)]:
+            for whole in (1499, 1500, 1501, 1502):
+                many = 1300 // (parts + 1)
+                program = pair(give(take("y", kind, crown(many, Y)), given), thicket(whole - many * (parts + 1)))
+                self.assertEqual(parts_of(form_of(row, program)), whole)
+                if whole <= 1500:
+                    self.assertEqual(long_form(row, program), form_of(row, program))
+                else:
+                    self.assertRaises(TooLong, long_form, row, program)
 
     def test_beyond_the_bounds_without_steps(self):
         program = P
