@@ -11,6 +11,9 @@ from kindfill.rooms import kinds_in_moves
 from kindfill.spots import has_word
 from kindfill.words import is_name
 
+# Well beyond the programs there and back that are told here.
+MOST_PARTS = 100000
+
 
 def are_bridges(one, other, there, back):
     """Whether two things are programs there and back between two kinds, and undo one another; or TooLong."""
@@ -35,10 +38,13 @@ def is_formed(thing):
 
     So may the names of their takes, from the hundredth on. Names that stand there are looked after by the kind.
     """
+    parts = 0
     todo = [(thing, 0)]
     while todo:
         part, takes = todo.pop()
-        if not any(has_word(part, word) for word in LENGTHS):
+        parts += 1
+        # Told at once: with tuples that share their parts there may be very many parts.
+        if parts > MOST_PARTS or not any(has_word(part, word) for word in LENGTHS):
             return False
         if part[0] in ("name", "take") and not isinstance(part[1], str):
             return False

@@ -105,6 +105,15 @@ class AreBridges(unittest.TestCase):
             self.none(A, A, thing, thing)
             self.none(ONE, to(ONE, ONE), take("y", ONE, take("z", ONE, thing)), take("y", to(ONE, ONE), THING))
 
+    def test_things_that_share_their_parts(self):
+        # Of so many parts that nobody goes through them all.
+        shared = THING
+        for _ in range(64):
+            shared = ("pair", shared, shared)
+        for thing in (shared, take("y", A, shared), ("give", SAME, shared)):
+            self.none(A, A, thing, SAME)
+            self.none(A, A, SAME, thing)
+
     def test_the_first_undoing_is_looked_at_first(self):
         large = many_steps(8)
         with self.assertRaises(TooLong):
